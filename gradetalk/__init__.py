@@ -1,0 +1,1 @@
+"""Gradetalk: sayings that are so to a degree, whatever 'both' means."""
