@@ -87,9 +87,14 @@ class Saying:
         return str(self._text)
 
 
+def is_letter(thing):
+    """Whether a value is one of the strings a to z."""
+    return isinstance(thing, str) and len(thing) == 1 and "a" <= thing <= "z"
+
+
 def named(name):
     """The saying that is a name, one of the letters a to z."""
-    if not isinstance(name, str) or len(name) != 1 or not "a" <= name <= "z":
+    if not is_letter(name):
         raise InvalidName(name)
     return Saying("name", (), name)
 

@@ -1,6 +1,7 @@
 """The package as a whole: its folder, its imports, and those rules of the language that can be counted."""
 
 import ast
+import inspect
 import pathlib
 import subprocess
 import sys
@@ -16,6 +17,39 @@ LIBRARY = {
         "product", "combinations", "permutations", "chain", "accumulate", "pairwise", "islice", "zip_longest",
     },
     "collections": {"defaultdict", "deque"},
+}
+BUILTINS = set(
+    """len range enumerate zip min max sum abs sorted reversed int str bool list tuple dict set isinstance ord repr any
+    all divmod ValueError TypeError KeyError IndexError LookupError""".split()
+)
+METHODS = set(
+    """append clear copy count endswith extend find get index insert items join keys partition pop remove replace
+    reverse setdefault split startswith strip update values add discard bit_length""".split()
+)
+BARRED = set(
+    """mro elements open input law register id type vars exec eval compile dir help exit quit globals locals
+    next iter map filter print hash object format callable round slice""".split()
+)
+# The functions and classes of the interface that stand already, with their arguments.
+INTERFACE = {
+    "degrees": {"is_degree": ["thing"], "degree": ["top", "bottom"], "at_most": ["x", "y"]},
+    "sayings": {"named": ["name"], "never": [], "always": []},
+    "texts": {"parsed": ["text"]},
+    "joinings": {
+        "Joining": ["pieces=()"],
+        "Joining.both": ["self", "x", "y"],
+        "Joining.then": ["self", "x", "y"],
+        "Joining.worth": ["self", "saying", "degrees"],
+        "Joining.is_break": ["self", "saying", "facts", "degrees"],
+        "sums": ["count"],
+    },
+    "judging": {"is_paper": ["shape", "saying", "facts", "thing"]},
+    "deciding": {
+        "follows_in": ["shape", "saying", "facts=()"],
+        "break_in": ["shape", "saying", "facts=()"],
+        "follows": ["saying", "facts=()"],
+        "break_of": ["saying", "facts=()"],
+    },
 }
 
 
@@ -69,6 +103,91 @@ class Language(unittest.TestCase):
                 self.assertNotIsInstance(node, ast.Div, file)
                 if isinstance(node, ast.Constant):
                     self.assertNotIsInstance(node.value, (float, complex), file)
+
+    def test_no_two_files_import_from_each_other(self):
+        told = {}
+        for file in FILES:
+            froms = [node.module for node in ast.walk(tree(file)) if isinstance(node, ast.ImportFrom)]
+            told[f"gradetalk.{file.stem}"] = [name for name in froms if name.startswith("gradetalk.")]
+        done = []
+        while len(done) < len(told):
+            ready = [name for name in told if name not in done and all(other in done for other in told[name])]
+            self.assertTrue(ready, "files that import from each other")
+            done += ready
+
+    def test_imported_names_are_defined_in_the_file_they_come_from(self):
+        for file in FILES:
+            for node in ast.walk(tree(file)):
+                if isinstance(node, ast.ImportFrom) and node.module.startswith("gradetalk."):
+                    body = tree(PACKAGE / (node.module.split(".")[1] + ".py")).body
+                    names = [part.name for part in body if isinstance(part, (ast.FunctionDef, ast.ClassDef))]
+                    names += [target.id for part in body if isinstance(part, ast.Assign) for target in part.targets]
+                    for alias in node.names:
+                        self.assertIsNone(alias.asname)
+                        self.assertIn(alias.name, names)
+
+    def test_what_is_not_used(self):
+        absent = (
+            ast.GeneratorExp, ast.Yield, ast.YieldFrom, ast.Global, ast.Nonlocal, ast.AsyncFunctionDef, ast.Try, ast.With,
+            ast.Match, ast.Lambda, ast.NamedExpr, ast.Set, ast.SetComp, ast.JoinedStr,
+        )
+        for file in FILES:
+            for node in ast.walk(tree(file)):
+                if isinstance(node, ast.JoinedStr) and file.stem == "sayings":
+                    continue
+                self.assertNotIsInstance(node, absent, file)
+                if isinstance(node, ast.FunctionDef):
+                    self.assertEqual(node.decorator_list, [])
+                    self.assertFalse([part for part in ast.walk(node) if isinstance(part, ast.FunctionDef)][1:])
+
+    def test_the_names(self):
+        own = set()
+        for file in FILES:
+            own |= {node.name for node in ast.walk(tree(file)) if isinstance(node, (ast.FunctionDef, ast.ClassDef))}
+        for file in FILES:
+            bound = set(own)
+            for node in ast.walk(tree(file)):
+                if isinstance(node, ast.ImportFrom):
+                    bound |= {alias.name for alias in node.names}
+                if isinstance(node, ast.arg):
+                    bound.add(node.arg)
+                if isinstance(node, ast.Name) and isinstance(node.ctx, ast.Store):
+                    bound.add(node.id)
+            self.assertFalse((bound - own) & (BUILTINS | BARRED), file)
+            self.assertFalse(own & (BUILTINS | BARRED), file)
+            for node in ast.walk(tree(file)):
+                if isinstance(node, ast.Name) and node.id not in bound:
+                    self.assertIn(node.id, BUILTINS, file)
+                if isinstance(node, ast.Call) and isinstance(node.func, ast.Attribute):
+                    self.assertIn(node.func.attr, METHODS | own, file)
+
+    def test_no_local_name_is_an_import_or_a_class_of_the_file(self):
+        for file in FILES:
+            module = tree(file)
+            top = {alias.name for node in module.body if isinstance(node, ast.ImportFrom) for alias in node.names}
+            top |= {node.name for node in module.body if isinstance(node, ast.ClassDef)}
+            local = {node.arg for node in ast.walk(module) if isinstance(node, ast.arg)}
+            local |= {node.id for node in ast.walk(module) if isinstance(node, ast.Name) and isinstance(node.ctx, ast.Store)}
+            self.assertFalse(top & local, file)
+
+
+class Interface(unittest.TestCase):
+    def test_names_and_arguments(self):
+        for module, things in INTERFACE.items():
+            loaded = __import__(f"gradetalk.{module}", fromlist=["gradetalk"])
+            for name, wanted in things.items():
+                owner, _, method = name.partition(".")
+                thing = getattr(loaded, owner)
+                self.assertEqual(thing.__module__, f"gradetalk.{module}")
+                if method:
+                    self.assertIn(method, vars(thing))
+                    thing = vars(thing)[method]
+                told = [str(parameter) for parameter in inspect.signature(thing).parameters.values()]
+                self.assertEqual(told, wanted, name)
+
+    def test_the_attributes_of_a_joining(self):
+        joining = __import__("gradetalk.joinings", fromlist=["gradetalk"]).Joining()
+        self.assertEqual((joining.pieces, joining.shape), ((), ("minimum",)))
 
 
 if __name__ == "__main__":

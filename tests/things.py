@@ -143,3 +143,72 @@ def balanced(size):
         return named("y").denied()
     half = (size - 1) // 2
     return balanced(half).then(balanced(size - 1 - half))
+
+
+def not_lists():
+    """Values that are neither lists nor tuples."""
+    return [thing for thing in anything() if not isinstance(thing, (list, tuple))] + [named("a"), "ab", {0: 1}]
+
+
+def not_shapes():
+    """Values that are no shapes, those that nearly are one among them."""
+    near = [
+        ("minimum", "minimum"),
+        ("sum", "minimum", "minimum", "product"),
+        ("sum", "product", "minimum", "minimum"),
+        ("Sum",),
+        ("sum ",),
+        ("su",),
+        ("",),
+        ("sum", ""),
+        ("sum", None),
+        ("sum", "minimum", 1),
+        ("lower",),
+        ("both",),
+        ("in",),
+        ("one",),
+        ("low", 0),
+        (("sum",),),
+        ("sum", ("product",)),
+        ("sum", ["product"]),
+        ("sum", {"product": 1}),
+        ("sum", named("a")),
+        ["sum"],
+        ["minimum"],
+        ["sum", "product"],
+        [("sum",)],
+        "sum",
+        "minimum",
+        {"sum": 1},
+        {0: "sum"},
+        3,
+    ]
+    return near + anything()
+
+
+def not_degree_dicts():
+    """Values that are no dicts with degrees for letters."""
+    near = [
+        {"a": (2, 4)},
+        {"a": (1, 2), "b": (3, 2)},
+        {"a": (1, 2), "b": None},
+        {"a": [1, 2]},
+        {"a": 1},
+        {"a": True},
+        {"a": named("a")},
+        {"A": (1, 2)},
+        {"ab": (1, 2)},
+        {"": (1, 2)},
+        {"0": (1, 2)},
+        {"`": (1, 2)},
+        {"{": (1, 2)},
+        {"a": (1, 2), "b ": (1, 2)},
+        {1: (1, 2)},
+        {None: (1, 2)},
+        {("a",): (1, 2)},
+        [("a", (1, 2))],
+        (("a", (1, 2)),),
+        "a",
+        named("a"),
+    ]
+    return near + [thing for thing in anything() if thing not in ({}, {"a": (1, 2)})]
