@@ -1,7 +1,7 @@
 """The arguments that several functions take alike, and the errors that wrong ones raise."""
 
 from gradetalk.degrees import is_degree
-from gradetalk.errors import InvalidDegrees, InvalidFacts, InvalidSaying, InvalidShape
+from gradetalk.errors import InvalidDegrees, InvalidFacts, InvalidSaying, InvalidSayings, InvalidShape
 from gradetalk.sayings import Saying, is_letter
 
 STRETCHES = ("sum", "product", "minimum")
@@ -20,6 +20,15 @@ def check_facts(things):
     for place, thing in enumerate(things):
         if not isinstance(thing, Saying):
             raise InvalidFacts(place)
+
+
+def check_sayings(things):
+    """Raises InvalidSayings for things that are no list, or for the first item that is no saying."""
+    if not isinstance(things, (list, tuple)):
+        raise InvalidSayings(None)
+    for place, thing in enumerate(things):
+        if not isinstance(thing, Saying):
+            raise InvalidSayings(place)
 
 
 def check_degrees(thing):

@@ -17,7 +17,7 @@ def break_in(shape, saying, facts=()):
     check_shape(shape)
     check_saying(saying)
     check_facts(facts)
-    return _break_by(shape, Plan(saying, facts))
+    return break_by(shape, Plan(saying, facts))
 
 
 def follows(saying, facts=()):
@@ -29,12 +29,17 @@ def break_of(saying, facts=()):
     """A break (joining, degrees), or None if the saying follows under all joinings."""
     check_saying(saying)
     check_facts(facts)
-    plan = Plan(saying, facts)
+    return break_among_all(Plan(saying, facts))
+
+
+def break_among_all(plan):
+    """A break (joining, degrees) for a plan, of some shape, or None if there is none in any shape."""
     # So many sums are enough for all joinings.
-    return _break_by(("sum",) * (len(plan.letters) + 1), plan)
+    return break_by(("sum",) * (len(plan.letters) + 1), plan)
 
 
-def _break_by(shape, plan):
+def break_by(shape, plan):
+    """A break (joining, degrees) for a plan, of a shape, or None."""
     spots = spots_in(shape, plan)
     if spots is None:
         return None

@@ -33,7 +33,7 @@ class Joining:
         """The worth of a saying, with degrees for its names."""
         check_saying(saying)
         check_degrees(degrees)
-        _check_named([saying], degrees)
+        check_named([saying], degrees)
         worths = _worths(self.pieces, [saying], degrees)
         return worths[str(saying)]
 
@@ -43,7 +43,7 @@ class Joining:
         check_facts(facts)
         check_degrees(degrees)
         told = [saying, *facts]
-        _check_named(told, degrees)
+        check_named(told, degrees)
         worths = _worths(self.pieces, told, degrees)
         for fact in facts:
             if worths[str(fact)] != WHOLE:
@@ -138,7 +138,8 @@ def _piece_around(pieces, x, y):
     return None
 
 
-def _check_named(sayings, degrees):
+def check_named(sayings, degrees):
+    """Raises NoDegree with the first name of some sayings, in order of the letters, that has no degree."""
     letters = [name for saying in sayings for name in saying.names]
     for name in sorted(set(letters)):
         if name not in degrees:

@@ -31,6 +31,17 @@ def words_of(shape, many):
     return [place[0] for place in places_of(shape, many)]
 
 
+def pattern_of(words, ranks):
+    """The words of the places that are needed, and the ranks of the names among these.
+
+    Where the names lie in the same order at places of the same sorts, all comes to the same, so it
+    is enough to look at each pattern once.
+    """
+    used = sorted(set([0, len(words) - 1, *ranks]))
+    sorts = [words[rank] if words[rank] in ("sum", "in") else "at" for rank in used]
+    return (tuple(sorts), tuple([used.index(rank) for rank in ranks]))
+
+
 def constant(value, many):
     """The form that is just a number, among this number of unknowns."""
     return (value,) + (0,) * many

@@ -12,11 +12,11 @@ class Plan:
     A step is a tuple (kind, first, second) with the numbers of the steps of its two pieces, which
     come ahead of it. A denied x stands there as x then never. Steps without pieces have the kinds
     "name", "never" and "always". What is known of the steps is a list with one item for each: its
-    worth in a shape, or None.
+    worth in a shape, or None. The parts of the others are steps, too, but nothing is asked of them.
     """
 
-    def __init__(self, saying, facts):
-        told = [*facts, saying]
+    def __init__(self, saying, facts, others=()):
+        told = [*facts, *others, saying]
         letters = [name for one in told for name in one.names]
         self.letters = sorted(set(letters))
         self.numbers = {"0": NEVER}
@@ -39,6 +39,29 @@ class Plan:
             self.steps.append(("then", numbers[0], NEVER))
         else:
             self.steps.append((part.kind, NEVER, NEVER))
+
+    def use(self, fact, count):
+        """Makes the goal a then: from both of so many times a fact, at least once, to what was the goal.
+
+        This is done by steps alone, as the saying itself may be larger than a saying may be.
+        """
+        number = self.numbers[str(fact)]
+        last = number
+        for _ in range(count - 1):
+            self.steps.append(("both", last, number))
+            last = len(self.steps) - 1
+        self.steps.append(("then", last, self.goal))
+        self.goal = len(self.steps) - 1
+
+    def below(self, numbers):
+        """The numbers, ascending, of all steps by which those with some numbers are worked out."""
+        found = {number: True for number in numbers}
+        for number in reversed(range(len(self.steps))):
+            kind, first, second = self.steps[number]
+            if number in found and kind not in ("name", "never", "always"):
+                found[first] = True
+                found[second] = True
+        return sorted(found)
 
     def start(self, words):
         """What is known in a shape before any name is placed."""

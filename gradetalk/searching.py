@@ -1,7 +1,7 @@
 """Looking in a shape for a place of each name at which a saying and facts have a break."""
 
 from gradetalk.cells import cut, full_cell, point_of
-from gradetalk.places import name_at, name_rows, places_of
+from gradetalk.places import name_at, name_rows, pattern_of, places_of
 
 
 def spots_in(shape, plan):
@@ -17,7 +17,7 @@ def spots_in(shape, plan):
     seen = set()
     ranks = (0,) * many
     while ranks is not None:
-        pattern = _pattern(words, ranks)
+        pattern = pattern_of(words, ranks)
         if pattern not in seen:
             seen.add(pattern)
             cells = _broken_cells(plan, demands, pattern[0], pattern[1])
@@ -35,17 +35,6 @@ def _following(ranks, count):
     return None
 
 
-def _pattern(words, ranks):
-    """The words of the places that are needed, and the ranks of the names among these.
-
-    Where the names lie in the same order at places of the same sorts, all comes to the same, so it
-    is enough to look at each pattern once.
-    """
-    used = sorted(set([0, len(words) - 1, *ranks]))
-    sorts = [words[rank] if words[rank] in ("sum", "in") else "at" for rank in used]
-    return (tuple(sorts), tuple([used.index(rank) for rank in ranks]))
-
-
 def _demands(plan):
     """What a break needs, by the numbers of steps: whether the step lies at one, or does not.
 
@@ -59,6 +48,8 @@ def _demands(plan):
         kind, first, second = plan.steps[number]
         if (kind in ("both", "lower") and wanted) or (kind == "higher" and not wanted):
             found.extend([(first, wanted), (second, wanted)])
+        elif kind == "then" and not wanted:
+            found.append((second, wanted))
         at += 1
     return found
 

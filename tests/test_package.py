@@ -30,7 +30,7 @@ BARRED = set(
     """mro elements open input law register id type vars exec eval compile dir help exit quit globals locals
     next iter map filter print hash object format callable round slice""".split()
 )
-# The functions and classes of the interface that stand already, with their arguments.
+# The functions and classes of the interface, with their arguments; those of sayings have tests of their own.
 INTERFACE = {
     "degrees": {"is_degree": ["thing"], "degree": ["top", "bottom"], "at_most": ["x", "y"]},
     "sayings": {"named": ["name"], "never": [], "always": []},
@@ -49,6 +49,23 @@ INTERFACE = {
         "break_in": ["shape", "saying", "facts=()"],
         "follows": ["saying", "facts=()"],
         "break_of": ["saying", "facts=()"],
+    },
+    "papers": {"paper_in": ["shape", "saying", "facts=()"], "paper": ["saying", "facts=()"]},
+    "grades": {
+        "grade": ["saying", "facts=()"],
+        "fewest": ["saying", "facts=()"],
+        "uses": ["fact", "saying", "facts=()"],
+        "least_facts": ["saying", "facts"],
+    },
+    "carrying": {"carried": ["joining", "degrees", "sayings"]},
+    "books": {
+        "Book": ["facts=()"],
+        "Book.__len__": ["self"],
+        "Book.holds": ["self", "saying"],
+        "Book.agrees": ["self", "second"],
+        "Book.tell": ["self", "saying"],
+        "Book.untell": ["self", "number"],
+        "Book.back": ["self"],
     },
 }
 
@@ -188,6 +205,10 @@ class Interface(unittest.TestCase):
     def test_the_attributes_of_a_joining(self):
         joining = __import__("gradetalk.joinings", fromlist=["gradetalk"]).Joining()
         self.assertEqual((joining.pieces, joining.shape), ((), ("minimum",)))
+
+    def test_the_attributes_of_a_book(self):
+        book = __import__("gradetalk.books", fromlist=["gradetalk"]).Book()
+        self.assertEqual(book.facts, ())
 
 
 if __name__ == "__main__":
