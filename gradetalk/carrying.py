@@ -34,28 +34,28 @@ class Seating:
     """Where names lie that have some degrees under a joining.
 
     The words are those of the places where never, always and the names lie, from the lowest one. Each
-    name has a rank, the number of its place, and a value: how far between the ends of its piece it
+    name has a rank, the number of its place, and a share: how far between the ends of its piece it
     lies, from 0 up to 1.
     """
 
     def __init__(self, pieces, worths):
         seats = [_seat(pieces, worth) for worth in worths]
-        places = _ascending([place for place, value in [_seat(pieces, NOTHING), *seats, _seat(pieces, WHOLE)]])
+        places = _ascending([place for place, share in [_seat(pieces, NOTHING), *seats, _seat(pieces, WHOLE)]])
         self.words = [word for low, word in places]
-        self.ranks = [places.index(place) for place, value in seats]
-        self.values = [value for place, value in seats]
+        self.ranks = [places.index(place) for place, share in seats]
+        self.shares = [share for place, share in seats]
 
     def fractions(self, plan):
         """The fractions of the names in sums in which the parts of the plan keep their order."""
         known = self._known(plan)
-        found = list(self.values)
+        found = list(self.shares)
         for rank, word in enumerate(self.words):
             if word == "in":
                 self._carry(rank, known, found)
         return found
 
     def _known(self, plan):
-        """What is known of the steps of a plan, by the values of its names."""
+        """What is known of the steps of a plan, by the shares of its names."""
         many = len(self.ranks)
         known = plan.start(self.words)
         for at, letter in enumerate(plan.letters):
@@ -69,9 +69,9 @@ class Seating:
         return known
 
     def _true_side(self, rank, sides):
-        """The side whose rows, with unknowns at a rank, hold for the values."""
+        """The side whose rows, with unknowns at a rank, hold for the shares."""
         for rows, worth in sides:
-            if all([_holds(self.words[rank], form, strict, self.values) for form, strict in rows]):
+            if all([_holds(self.words[rank], form, strict, self.shares) for form, strict in rows]):
                 return (rows, worth)
         return None
 
@@ -123,28 +123,28 @@ def _is_under(place, other):
     return is_below(place[0], other[0]) or (place[0] == other[0] and place[1] == "at" and other[1] == "in")
 
 
-def _holds(word, form, strict, values):
-    """Whether a row holds for values, which within a product are 1/2 to the power of the unknowns."""
+def _holds(word, form, strict, shares):
+    """Whether a row holds for shares, which within a product are 1/2 to the power of the unknowns."""
     if word == "in":
-        above, below = _powers(form, values)
+        above, below = _powers(form, shares)
     else:
-        above, below = _total(form, values)
+        above, below = _total(form, shares)
     return above > below or (above == below and not strict)
 
 
-def _total(form, values):
-    """Two integers, the first one of which is greater if the form of the values is above 0."""
+def _total(form, shares):
+    """Two integers, the first one of which is greater if the form of the shares is above 0."""
     above, bottom = form[0], 1
-    for count, (top, under) in zip(form[1:], values):
+    for count, (top, under) in zip(form[1:], shares):
         above, bottom = above * under + count * top * bottom, bottom * under
     return (above, 0)
 
 
-def _powers(form, values):
+def _powers(form, shares):
     """Two integers, the first one of which is greater if the form of the exponents is above 0."""
     above, below = 1, 1
-    for count, (top, bottom) in zip(form[1:], values):
+    for count, (top, bottom) in zip(form[1:], shares):
         for _ in range(abs(count)):
-            # A lower value stands for a greater exponent.
+            # A lower share stands for a greater exponent.
             above, below = (above * bottom, below * top) if count > 0 else (above * top, below * bottom)
     return (above, below)

@@ -92,6 +92,23 @@ class Known(Carrying):
             self.carry(joining, degrees, "((b -> a) -> a)", "((a -> b) -> b)", "(a & b)", "(b & b)", "(a & a)", "not a")
         self.carry(PRODUCT, {"a": (0, 1), "b": (1, 2)}, "(b -> a)", "(b & b)", "not b")
 
+    def test_what_a_sum_decides_of_a_product(self):
+        # Whether a condition on a comes to 1 decides which both of b and b there is to keep in order with c.
+        conditions = ("(a -> not a)", "(not a -> a)", "((a & a) -> not a)", "(not a -> (a & a))", "((a & a) same not a)", "not not a",
+                      "(not (a & a) -> (a -> (a & a)))", "not (a & a)", "((a min not a) -> (a & (a & a)))", "((a max not a) same a)")
+        joining = Joining([((0, 1), (1, 2), "sum"), ((1, 2), (1, 1), "product")])
+        for top in range(13):
+            for c in ((5, 8), (19, 32), (2, 3)):
+                degrees = {"a": degree(top, 24), "b": (3, 4), "c": c}
+                for text in conditions:
+                    self.carry(joining, degrees, f"((({text} & b) & b) same c)")
+                    self.carry(joining, degrees, f"((({text} -> c) & b) -> c)")
+        for top in range(1, 24, 2):
+            for bottom in (24, 34, 50):
+                degrees = {"a": (1, 7), "b": degree(top, 2 * bottom), "c": (3, 4)}
+                for text in ("(a -> b)", "(b -> a)", "(not a -> b)", "((a & b) -> not b)", "(b same (a & a))", "((not a & b) -> a)"):
+                    self.carry(joining, degrees, f"((({text} & c) & (c & c)) & c)")
+
     def test_every_name_at_a_place_of_its_own(self):
         joining = Joining([((0, 1), (1, 4), "product"), ((1, 4), (1, 2), "sum"), ((1, 2), (3, 4), "product")])
         told = self.carry(joining, {"a": (1, 8), "b": (3, 8), "c": (5, 8)}, "((a & a) & ((b & b) & (c & c)))", "(not a max c)")

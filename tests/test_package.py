@@ -30,6 +30,11 @@ BARRED = set(
     """mro elements open input law register id type vars exec eval compile dir help exit quit globals locals
     next iter map filter print hash object format callable round slice""".split()
 )
+# What no attribute of the package is called: the methods of lists and dicts that change or read them.
+BARRED_ATTRIBUTES = set(
+    """items keys values pop update append clear extend insert remove reverse setdefault sort args encode decode hex
+    fromhex format""".split()
+)
 # The functions and classes of the interface, with their arguments; those of sayings have tests of their own.
 INTERFACE = {
     "degrees": {"is_degree": ["thing"], "degree": ["top", "bottom"], "at_most": ["x", "y"]},
@@ -177,6 +182,22 @@ class Language(unittest.TestCase):
                     self.assertIn(node.id, BUILTINS, file)
                 if isinstance(node, ast.Call) and isinstance(node.func, ast.Attribute):
                     self.assertIn(node.func.attr, METHODS | own, file)
+
+    def test_the_attributes(self):
+        assigned, methods = set(), set()
+        for file in FILES:
+            for node in ast.walk(tree(file)):
+                if isinstance(node, ast.Attribute) and isinstance(node.ctx, ast.Store):
+                    assigned.add(node.attr)
+                if isinstance(node, ast.ClassDef):
+                    methods |= {part.name for part in node.body if isinstance(part, ast.FunctionDef)}
+        self.assertFalse(assigned & (BARRED_ATTRIBUTES | BARRED | methods))
+        for file in FILES:
+            module = tree(file)
+            called = {id(node.func) for node in ast.walk(module) if isinstance(node, ast.Call)}
+            for node in ast.walk(module):
+                if isinstance(node, ast.Attribute) and isinstance(node.ctx, ast.Load) and id(node) not in called:
+                    self.assertIn(node.attr, assigned, file)
 
     def test_no_local_name_is_an_import_or_a_class_of_the_file(self):
         for file in FILES:

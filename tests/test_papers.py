@@ -134,6 +134,20 @@ class Edges(Written):
             self.assertIsNotNone(self.write_all("(a -> b)", [*facts, "b"]))
         self.assertIsNotNone(self.write_all("1", ["a", "b"]))
 
+    def test_what_is_not_needed_is_left_out(self):
+        # No promise, but papers would grow long otherwise.
+        for facts, text, names in (
+            (["a", "(b same c)", "(c max (b & a))"], "a", {"a"}),
+            (["(b same c)", "(c -> c)", "a"], "(a & a)", {"a"}),
+            (["b", "(b same c)"], "(a -> a)", {"a"}),
+            (["(b -> c)", "a", "c", "not a"], "(b same c)", {"a"}),
+            (["(b -> c)", "a", "(a -> b)", "c"], "(a -> b)", {"a", "b"}),
+            (["(b -> c)", "(a -> b)", "(b -> b)", "b"], "(a -> c)", {"a", "b", "c"}),
+        ):
+            for shape in (SUM, ("sum", "product"), ("minimum", "sum", "minimum")):
+                told = self.write(shape, text, facts)
+                self.assertEqual({node[1] for node in nodes_of(told) if node[0] == "place"}, names)
+
     def test_a_part_and_its_like(self):
         # not a and a -> 0 are two parts, each of which is split; the second split cannot go another way.
         for text in ("(not a same (a -> 0))", "((a -> 0) -> not a)", "(not not a same ((a -> 0) -> 0))"):

@@ -4,9 +4,14 @@ import random
 import time
 import unittest
 
+from gradetalk.books import Book
+from gradetalk.carrying import carried
 from gradetalk.deciding import break_in, break_of, follows, follows_in
+from gradetalk.degrees import degree
+from gradetalk.grades import fewest, grade, least_facts, uses
 from gradetalk.joinings import Joining
 from gradetalk.judging import is_paper
+from gradetalk.papers import paper, paper_in
 from gradetalk.sayings import named
 from gradetalk.texts import parsed
 from tests.draws import drawn_saying, drawn_shape, joining_of
@@ -31,6 +36,18 @@ SHAPES = (
     ("minimum", "product", "minimum", "product"),
     ("minimum", "product", "product", "minimum"),
     ("product", "sum", "minimum", "sum"),
+)
+
+# Found by looking for what takes longest, or for the longest papers.
+LONG = (
+    ("((not 1 same ((not a same a) same ((not c same c) same (c same (not b same b))))) max 1)", (),
+     ("sum", "minimum", "sum", "minimum")),
+    ("((not (((b same a) same (b same not a)) same ((not c same c) same not b)) same 0) -> 1)", (), ("sum", "minimum", "product")),
+    ("((a & (c same ((c same (c & (not (b & b) max (c & c)))) same c))) -> a)", ("b",), ("minimum", "sum", "sum", "minimum")),
+    ("((c & (c & ((b -> (b & b)) -> (((a & a) -> c) & (c & c))))) -> c)", (), ("product", "sum", "sum", "sum")),
+    ("(((a & a) & a) -> (((c & (c & ((c & c) & (b -> c)))) & c) -> c))", (), ("product", "sum", "sum", "product")),
+    ("(((((a same c) same c) same ((b same (a same b)) same b)) same b) -> 1)", ("b", "b", "not c"),
+     ("product", "sum", "sum", "product")),
 )
 
 
@@ -102,6 +119,82 @@ class Times(unittest.TestCase):
             self.assertIs(self.timed(is_paper, shape, saying, [], paper), True)
             self.assertIs(self.timed(is_paper, shape, saying, [named("a")], paper), True)
             self.assertIs(self.timed(is_paper, shape, named("a"), [saying], paper), False)
+
+    def test_papers(self):
+        for text, facts, shape in (*LONG, *((text, (), shape) for text in HARD for shape in SHAPES)):
+            saying, facts = parsed(text), [parsed(fact) for fact in facts]
+            told = self.timed(paper_in, shape, saying, facts)
+            self.assertIs(self.timed(is_paper, shape, saying, facts, told), True)
+        for text, facts, _ in (*LONG, *((text, (), None) for text in HARD)):
+            saying, facts = parsed(text), [parsed(fact) for fact in facts]
+            told = self.timed(paper, saying, facts)
+            self.assertIs(self.timed(is_paper, ("sum",) * 4, saying, facts, told), True)
+
+    def test_papers_in_five_stretches(self):
+        text = "((((a same (a same b)) same (b same (b same a))) same ((a & b) same (a -> b))) max 1)"
+        for shape in (("sum",) * 5, ("product",) * 5, ("minimum", "product", "minimum", "product", "minimum"),
+                      ("sum", "product", "minimum", "sum", "product")):
+            told = self.timed(paper_in, shape, parsed(text))
+            self.assertIs(self.timed(is_paper, shape, parsed(text), [], told), True)
+
+    def test_drawn_papers(self):
+        rng = random.Random(310)
+        for _ in range(60):
+            kinds = rng.choice((("same",), ("same", "same", "both"), ("both", "then"), BINARY))
+            facts = [drawn_saying(rng, 3, "abc", kinds) for _ in range(rng.randint(0, 2))]
+            saying = drawn_saying(rng, 19 - 3 * len(facts), "abc", kinds)
+            if many_same(saying) + sum(many_same(fact) for fact in facts) <= 8:
+                shape, saying = drawn_shape(rng, 4), saying.then(parsed("1"))
+                told = self.timed(paper_in, shape, saying, facts)
+                self.assertIs(self.timed(is_paper, shape, saying, facts, told), True)
+
+    def test_grades(self):
+        for text, facts, _ in (*LONG, *((text, (), None) for text in HARD)):
+            saying, facts = parsed(text), [parsed(fact) for fact in facts]
+            self.assertIsNone(self.timed(grade, saying, facts))
+            self.assertIsNone(self.timed(fewest, saying, facts))
+            self.timed(grade, saying.pieces[0], facts)
+            self.timed(fewest, saying.pieces[0], facts)
+            self.assertEqual(self.timed(uses, named("a"), saying, facts), (0, None))
+            self.timed(least_facts, saying.pieces[0], facts)
+
+    def test_uses_up_to_twelve(self):
+        for fact, text, facts in (
+            ("a", "(b & (b & b))", ("((a & (a & (a & a))) -> b)",)),
+            ("(a & b)", "(c & (c & c))", ("((a & (a & (a & a))) -> c)", "b")),
+            ("(b & c)", "((not a -> b) & (((b & b) & (b & (b & (b & b)))) & b))", ()),
+            ("not a", "((c & (c & (c & c))) & (c & c))", ("(not a -> ((a -> b) -> c))",)),
+            ("(a same b)", "(c & (c & c))", ("((a same b) -> ((a same b) -> ((b same a) -> ((b same a) -> c))))",)),
+        ):
+            told = self.timed(uses, parsed(fact), parsed(text), [parsed(other) for other in facts])
+            self.assertIsNotNone(told)
+
+    def test_least_sets_of_six_facts(self):
+        for text, facts in (
+            ("((a & b) & c)", ("a", "a", "b", "b", "c", "c")),
+            ("(((a same b) & (b same c)) & c)", ("(a same b)", "(b same c)", "(a same c)", "a", "b", "c")),
+            ("(((b same a) same (c same b)) same b)", ("not not a", "a", "not b", "(a same b)", "not not c")),
+            ("((((c same b) same a) same b) same a)", ("a", "b", "c", "not a", "not b", "not c")),
+        ):
+            self.timed(least_facts, parsed(text), [parsed(fact) for fact in facts])
+
+    def test_books_of_six_facts(self):
+        facts = [parsed(text) for text in ("(a same b)", "(b same c)", "(c max a)", "(a -> c)", "b", "not not c")]
+        book = self.timed(Book, facts[:5])
+        self.assertIs(self.timed(book.tell, facts[5]), True)
+        self.assertIs(self.timed(book.holds, parsed("(((a same b) same c) & a)")), True)
+        self.assertIs(self.timed(book.agrees, Book(facts[::-1])), True)
+        self.timed(book.untell, 3)
+
+    def test_carrying_over(self):
+        texts = ("((a & (b & (a & b))) same (b & (b & (c & (c & (c & c))))))", *HARD)
+        worths = [(HUGE - 4, HUGE), (HUGE // 2 - 1, HUGE), (HUGE // 3, HUGE - 1)]
+        degrees = {name: degree(*worth) for name, worth in zip("abc", worths)}
+        for kind in ("sum", "product"):
+            within = Joining([(degree(HUGE // 3 - 7, HUGE - 1), (1, 1), kind)])
+            for joining in (Joining([((0, 1), (1, 1), kind)]), within, joining_of((kind,) * 12)):
+                for text in texts:
+                    self.timed(carried, joining, degrees, [parsed(text)])
 
     def test_worths_of_large_sayings(self):
         degrees = {name: (HUGE - at - 2, HUGE - at - 1) for at, name in enumerate(LETTERS)}
